@@ -1,0 +1,1 @@
+"""Ways to draw an order by lot, and when they are even."""

@@ -1,0 +1,255 @@
+"""The interface as it is written, and the rules of form that a test can see."""
+
+import ast
+import builtins
+import unittest
+from pathlib import Path
+
+PACKAGE = Path(__file__).resolve().parent.parent / "evenorders"
+FILES = sorted(PACKAGE.glob("*.py"))
+TREES = {path.stem: ast.parse(path.read_text()) for path in FILES}
+
+INTERFACE = {
+    "webs": ["ahead_of(web, name)", "behind_of(web, name)", "may_come(web, lot)",
+             "straight(web)", "open_pairs(web)", "closed_lots(web)"],
+    "making": ["turned(web)", "renamed(web, names)", "part(web, lot)", "side_by_side(one, other)",
+               "one_behind(one, other)", "with_before(web, one, other)",
+               "without_before(web, one, other)", "naming(one, other)"],
+    "lines": ["longest(web)", "widest(web)", "lines(web)", "is_lines(web, thing)"],
+    "orders": ["is_order(web, thing)", "count(web)", "order_number(web, order)", "rest(web, lot)",
+               "orders(web)", "order_at(web, number)"],
+    "rowsets": ["common_web(rows)", "are_all(rows)", "fewest_rows(web)"],
+    "exchanging": ["exchanges(web, order)", "way_there(web, one, other)", "far(web, one, other)",
+                   "is_way_there(web, one, other, thing)", "farthest(web)"],
+    "shares": ["place_share(web, name, place)", "ahead_share(web, one, other)",
+               "mean_place(web, name)", "next_shares(web, lot)"],
+    "ways": ["chance(web, way, order)", "chances(web, way)", "number_rows(web, order)",
+             "numbers_web(web, order)", "even(web, way)", "still_even(web, way, lot)",
+             "likeliest(web, way)", "unlikeliest(web, way)"],
+}
+
+LIBRARY = {
+    "heapq": {"heappush", "heappop", "heapify", "heapreplace", "heappushpop"},
+    "math": {"gcd", "lcm", "isqrt", "comb", "perm", "factorial"},
+    "itertools": {"product", "combinations", "permutations"},
+}
+LIBRARY_NAMES = set().union(*LIBRARY.values())
+BUILTINS = set(
+    "len range enumerate zip min max sum abs sorted reversed int str bool list tuple dict set "
+    "isinstance ord repr any all divmod Exception ValueError".split())
+METHODS = set(
+    "append clear copy count endswith extend find get index insert isalnum isalpha isdigit items "
+    "join keys ljust lower lstrip partition pop remove replace reverse rfind rjust rstrip "
+    "setdefault split splitlines startswith strip update upper values zfill __init__".split())
+BARRED = set(
+    "register mro elements open input law version_info with_traceback add_note compile dir eval "
+    "exec exit gc getattr globals hasattr help id locals os quit setattr super type vars sys "
+    "typing enum dataclass namedtuple overload contextmanager hash next iter map filter print "
+    "chr bytes frozenset float complex pow round format object".split())
+NODES = (
+    ast.AsyncFunctionDef, ast.Await, ast.AsyncFor, ast.AsyncWith, ast.Global, ast.Div,
+    ast.GeneratorExp, ast.Yield, ast.YieldFrom, ast.Try, ast.With, ast.Match, ast.AnnAssign,
+    ast.MatMult, ast.Pow, ast.NamedExpr, ast.Set, ast.Import, ast.JoinedStr, ast.Nonlocal,
+)
+
+
+def definitions(tree):
+    return {node.name: node for node in tree.body
+            if isinstance(node, (ast.FunctionDef, ast.ClassDef))}
+
+
+def constants(tree):
+    return [node.targets[0].id for node in tree.body if isinstance(node, ast.Assign)]
+
+
+def imports(tree):
+    return [node for node in tree.body if isinstance(node, ast.ImportFrom)]
+
+
+def parents(tree):
+    return {child: node for node in ast.walk(tree) for child in ast.iter_child_nodes(node)}
+
+
+def bound_names(function):
+    """The parameters and local variables of a function, those nested in it, too."""
+    args = [node.arg for node in ast.walk(function) if isinstance(node, ast.arg)]
+    names = [node.id for node in ast.walk(function)
+             if isinstance(node, ast.Name) and isinstance(node.ctx, ast.Store)]
+    return set(args + names)
+
+
+class InterfaceTest(unittest.TestCase):
+    def test_functions_are_defined_where_they_are_listed(self):
+        for stem, heads in INTERFACE.items():
+            found = definitions(TREES[stem])
+            for head in heads:
+                name, arguments = head[:-1].split("(")
+                self.assertIsInstance(found[name], ast.FunctionDef, head)
+                self.assertEqual(ast.unparse(found[name].args), arguments, head)
+
+    def test_web(self):
+        methods = [node.name for node in definitions(TREES["webs"])["Web"].body
+                   if isinstance(node, ast.FunctionDef)]
+        self.assertEqual(methods, ["__init__", "__eq__"])
+
+    def test_listed_names_are_bound_in_no_other_file(self):
+        for stem, heads in INTERFACE.items():
+            for name in [head.split("(")[0] for head in heads]:
+                for other in TREES:
+                    self.assertEqual(name in definitions(TREES[other]), other == stem, name)
+
+
+class FilesTest(unittest.TestCase):
+    def test_the_folder_contains_plain_files_alone(self):
+        for path in PACKAGE.iterdir():
+            if path.name != "__pycache__":
+                self.assertEqual(path.suffix, ".py")
+                self.assertRegex(path.stem, "^[a-z_]+$")
+        self.assertIn("__init__", TREES)
+
+    def test_characters_and_sizes(self):
+        for path in FILES:
+            text = path.read_text()
+            rows = text.split("\n")
+            self.assertTrue(all(sign == "\n" or " " <= sign <= "~" for sign in text), path)
+            self.assertLessEqual(len(rows), 399)
+            self.assertLessEqual(max(len(row) for row in rows), 120)
+            for node in ast.walk(TREES[path.stem]):
+                if isinstance(node, ast.FunctionDef):
+                    self.assertLessEqual(node.end_lineno - node.lineno + 1, 40, node.name)
+
+    def test_module_level(self):
+        for stem, tree in TREES.items():
+            self.assertIsNotNone(ast.get_docstring(tree), stem)
+            for node in tree.body[1:]:
+                self.assertIsInstance(
+                    node, (ast.ImportFrom, ast.FunctionDef, ast.ClassDef, ast.Assign))
+                if isinstance(node, ast.Assign):
+                    ast.literal_eval(node.value)
+            bound = [*definitions(tree), *constants(tree),
+                     *[alias.name for node in imports(tree) for alias in node.names]]
+            self.assertEqual(sorted(bound), sorted(set(bound)), stem)
+
+    def test_imports(self):
+        for stem, tree in TREES.items():
+            for node in imports(tree):
+                self.assertEqual(node.level, 0)
+                names = [alias.name for alias in node.names]
+                self.assertTrue(all(alias.asname is None for alias in node.names))
+                if node.module in LIBRARY:
+                    self.assertLessEqual(set(names), LIBRARY[node.module])
+                else:
+                    package, file = node.module.split(".")
+                    self.assertEqual(package, "evenorders")
+                    known = [*definitions(TREES[file]), *constants(TREES[file])]
+                    self.assertLessEqual(set(names), set(known), stem)
+                for name in names:
+                    used = [part for part in ast.walk(tree)
+                            if isinstance(part, ast.Name) and part.id == name]
+                    self.assertTrue(used, f"{stem} does not use {name}")
+
+    def test_no_imports_in_a_ring(self):
+        needs = {stem: {node.module.split(".")[1] for node in imports(tree)
+                        if "." in node.module} for stem, tree in TREES.items()}
+        while needs:
+            free = [stem for stem in needs if not needs[stem] & set(needs)]
+            self.assertTrue(free, needs)
+            needs = {stem: needs[stem] for stem in needs if stem not in free}
+
+
+class RulesTest(unittest.TestCase):
+    def each(self, *kinds):
+        for stem, tree in TREES.items():
+            for node in ast.walk(tree):
+                if isinstance(node, kinds):
+                    yield f"{stem}: {ast.unparse(node)}", node
+
+    def test_parts_of_the_language_that_are_not_used(self):
+        for said, _ in self.each(*NODES):
+            self.fail(said)
+        for said, node in self.each(ast.Constant):
+            self.assertIn(type(node.value), (int, str, bool, type(None)), said)
+        for said, node in self.each(ast.FunctionDef, ast.ClassDef):
+            self.assertEqual(node.decorator_list, [], said)
+
+    def test_names(self):
+        for said, node in self.each(ast.Name):
+            self.assertNotIn(node.id, BARRED, said)
+        for said, node in self.each(ast.Attribute):
+            self.assertNotIn(node.attr, BARRED, said)
+            self.assertRegex(node.attr, "^(__init__|[a-z][a-z_]*)$", said)
+        for said, node in self.each(ast.arg):
+            self.assertNotIn(node.arg, BARRED, said)
+
+    def test_no_name_means_two_things(self):
+        for tree in TREES.values():
+            imported = {alias.name for node in imports(tree) for alias in node.names}
+            taken = imported | set(dir(builtins)) | set(definitions(tree)) | set(constants(tree))
+            for function in ast.walk(tree):
+                if isinstance(function, ast.FunctionDef):
+                    self.assertFalse(bound_names(function) & taken, function.name)
+
+    def test_every_name_is_known(self):
+        for stem, tree in TREES.items():
+            known = {alias.name for node in imports(tree) for alias in node.names}
+            known |= BUILTINS | set(definitions(tree)) | set(constants(tree))
+            for function in tree.body:
+                bound = bound_names(function)
+                for node in ast.walk(function):
+                    if isinstance(node, ast.Name):
+                        self.assertIn(node.id, known | bound, f"{stem}: {node.id}")
+
+    def test_methods(self):
+        for said, node in self.each(ast.Call):
+            if isinstance(node.func, ast.Attribute):
+                self.assertIn(node.func.attr, METHODS, said)
+            for keyword in node.keywords:
+                self.assertIn((node.func.id, keyword.arg), [("sorted", "key"), ("min", "key")])
+
+    def test_library_names_are_called(self):
+        for tree in TREES.values():
+            above = parents(tree)
+            for node in ast.walk(tree):
+                if isinstance(node, ast.Name) and node.id in LIBRARY_NAMES:
+                    self.assertIsInstance(above[node], ast.Call)
+                    self.assertIs(above[node].func, node)
+
+    def test_is_stands_beside_none_alone(self):
+        for said, node in self.each(ast.Compare):
+            if any(isinstance(sign, (ast.Is, ast.IsNot)) for sign in node.ops):
+                self.assertIsNone(node.comparators[0].value, said)
+
+    def test_sets_are_measured_or_sorted_at_once(self):
+        for tree in TREES.values():
+            above = parents(tree)
+            for node in ast.walk(tree):
+                a_set = isinstance(node, ast.SetComp) or (
+                    isinstance(node, ast.Call) and ast.unparse(node.func) == "set")
+                if a_set:
+                    self.assertIn(ast.unparse(above[node].func), ("len", "sorted"))
+
+    def test_views_are_iterated_at_once(self):
+        lazy = ("zip", "enumerate", "reversed", "combinations")
+        for tree in TREES.values():
+            above = parents(tree)
+            for node in ast.walk(tree):
+                if isinstance(node, ast.Call) and ast.unparse(node.func) in lazy:
+                    self.assertIsInstance(above[node], (ast.For, ast.comprehension))
+
+    def test_strings(self):
+        for said, node in self.each(ast.Constant):
+            if isinstance(node.value, str):
+                self.assertNotIn("%", node.value, said)
+                self.assertNotIn("__", node.value, said)
+                self.assertNotIn("\\", node.value, said)
+
+    def test_errors_are_made_where_they_are_raised(self):
+        errors = definitions(TREES["errors"])
+        for said, node in self.each(ast.Raise):
+            self.assertIsInstance(node.exc, ast.Call, said)
+            self.assertIn(node.exc.func.id, errors, said)
+            self.assertIsNone(node.cause, said)
+
+
+if __name__ == "__main__":
+    unittest.main()
