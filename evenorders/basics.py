@@ -5,7 +5,7 @@ if name k is in the lot. A list of needs has, for each name, the bits of the
 names that must have come before it may come.
 """
 
-from math import gcd
+from math import gcd, lcm
 
 
 def is_integer(thing):
@@ -40,6 +40,29 @@ def fraction(top, bottom):
     """A fraction in lowest terms, of a bottom that is at least 1."""
     shared = gcd(top, bottom)
     return (top // shared, bottom // shared)
+
+
+def sum_of(parts):
+    """The sum of fractions, whether these are in lowest terms or not."""
+    bottom = 1
+    for part in parts:
+        bottom = lcm(bottom, part[1])
+    return fraction(sum([top * (bottom // under) for top, under in parts]), bottom)
+
+
+def is_less(one, other):
+    """Whether a fraction is less than another one."""
+    return one[0] * other[1] < other[0] * one[1]
+
+
+def unevenness_of(bottoms):
+    """How uneven a draw is of which each order's chance is one in a number."""
+    many = len(bottoms)
+    return sum_of([(abs(many - bottom), 2 * many * bottom) for bottom in bottoms])
+
+
+def are_apart(web, one, other):
+    return one != other and (one, other) not in web.befores and (other, one) not in web.befores
 
 
 def bits_of(lot):
@@ -88,10 +111,52 @@ def closed_bits(needs):
     return [bits for bits in range(1 << len(needs)) if is_closed(needs, bits)]
 
 
+def nexts_of(needs):
+    """For the bits of each closed lot the names that may come behind it, ascending."""
+    return {gone: comers(needs, gone) for gone in closed_bits(needs)}
+
+
+def ways_on(nexts):
+    """For each lot, by its bits, the number of ways to go on to the end.
+
+    The nexts have, for each lot that may be gone, those who may come next.
+    """
+    every = max(list(nexts))
+    ways = {every: 1}
+    for gone in sorted(nexts, reverse=True):
+        if gone != every:
+            ways[gone] = sum([ways[gone | (1 << name)] for name in nexts[gone]])
+    return ways
+
+
 def rests(needs):
     """For the bits of each closed lot the number of ways to go on to the end."""
-    ways = {}
-    for gone in reversed(closed_bits(needs)):
-        found = comers(needs, gone)
-        ways[gone] = sum([ways[gone | (1 << name)] for name in found]) if found else 1
-    return ways
+    return ways_on(nexts_of(needs))
+
+
+def row_at(nexts, ways, number):
+    """The row with a number among all rows, ascending, that go by the nexts to the end."""
+    row = ()
+    gone = 0
+    left = number
+    while nexts[gone]:
+        name = max([one for one in nexts[gone] if _ways_past(nexts, ways, gone, one) <= left])
+        left -= _ways_past(nexts, ways, gone, name)
+        row = (*row, name)
+        gone |= 1 << name
+    return row
+
+
+def row_number(nexts, ways, row):
+    """The number of a row among all rows, ascending, that go by the nexts to the end."""
+    number = 0
+    gone = 0
+    for name in row:
+        number += _ways_past(nexts, ways, gone, name)
+        gone |= 1 << name
+    return number
+
+
+def _ways_past(nexts, ways, gone, name):
+    """How many ways to go on have a lesser name next."""
+    return sum([ways[gone | (1 << one)] for one in nexts[gone] if one < name])

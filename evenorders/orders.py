@@ -1,7 +1,7 @@
 """The orders of a web, counted, listed and numbered."""
 
 from evenorders.basics import ahead_bits, bits_of, comers, is_all_names, is_closed_lot
-from evenorders.basics import is_integer, rests
+from evenorders.basics import is_integer, nexts_of, rests, row_at, row_number, ways_on
 from evenorders.errors import NoLot, NoNumber, NoOrder, TooMany
 
 MOST_ORDERS = 5000
@@ -31,45 +31,18 @@ def orders(web):
 
 def order_at(web, number):
     """The order with a number in the ascending list of all."""
-    needs = ahead_bits(web)
-    ways = rests(needs)
+    nexts = nexts_of(ahead_bits(web))
+    ways = ways_on(nexts)
     if not is_integer(number) or not 0 <= number < ways[0]:
         raise NoNumber()
-    row = ()
-    gone = 0
-    left = number
-    while len(row) < web.many:
-        name, skipped = _next_by_number(needs, ways, gone, left)
-        row = (*row, name)
-        gone |= 1 << name
-        left -= skipped
-    return row
-
-
-def _next_by_number(needs, ways, gone, left):
-    """Who comes next in the row with a number among those that go on, and how
-    many of these have a lesser one next."""
-    skipped = 0
-    for name in comers(needs, gone):
-        here = ways[gone | (1 << name)]
-        if left < skipped + here:
-            break
-        skipped += here
-    return (name, skipped)
+    return row_at(nexts, ways, number)
 
 
 def order_number(web, order):
     if not is_order(web, order):
         raise NoOrder()
-    needs = ahead_bits(web)
-    ways = rests(needs)
-    number = 0
-    gone = 0
-    for name in order:
-        lesser = [other for other in comers(needs, gone) if other < name]
-        number += sum([ways[gone | (1 << other)] for other in lesser])
-        gone |= 1 << name
-    return number
+    nexts = nexts_of(ahead_bits(web))
+    return row_number(nexts, ways_on(nexts), order)
 
 
 def rest(web, lot):

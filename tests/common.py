@@ -14,6 +14,8 @@ F = Web(3, ((0, 1), (0, 2)))
 ONE = Web(1, ())
 APART8 = Web(8, ())
 ROW8 = Web(8, tuple((name, name + 1) for name in range(7)))
+LEVELS8 = Web(8, tuple((one, other) for one in range(4) for other in range(4, 8)))
+ALMOST_LEVELS8 = Web(8, LEVELS8.befores[:-1])
 # There is no web of at most 8 names with 4705 to 5039 orders.
 WITH_4704 = Web(8, ((0, 7), (1, 7), (2, 7), (5, 6), (5, 7)))
 WITH_5040 = Web(7, ())
@@ -90,6 +92,12 @@ def strange():
         nested(40, lambda thing: ((0, 1), thing)), nested(40, lambda thing: [(0, 1, 2), thing]),
         tuple(range(9999)), [0] * 9999, ((),) * 9999, (0,) * 9999, ((0, 1),) * 3000,
     ]
+
+
+def strange_but(*allowed):
+    """Those of the strange things that are not, kind by kind, one of these."""
+    kept = [exact(thing) for thing in allowed]
+    return [thing for thing in strange() if exact(thing) not in kept]
 
 
 def exact(thing):
