@@ -65,6 +65,17 @@ def are_apart(web, one, other):
     return one != other and (one, other) not in web.befores and (other, one) not in web.befores
 
 
+def pieces_of(lot, pairs):
+    """The parts of a lot of which the names hang together by pairs, by their least names."""
+    piece = {name: (name,) for name in lot}
+    for one, other in pairs:
+        if one in piece and other in piece and piece[one] != piece[other]:
+            joined = tuple(sorted([*piece[one], *piece[other]]))
+            for name in joined:
+                piece[name] = joined
+    return sorted(set(list(piece.values())))
+
+
 def bits_of(lot):
     return sum([1 << name for name in lot])
 

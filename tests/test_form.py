@@ -35,9 +35,14 @@ INTERFACE = {
                  "end_even(web, calling)", "moment(web, calling)", "calling(web)", "an_n(web)",
                  "two_pairs(web)", "count_callings(web)", "calling_number(web, calling)",
                  "calling_at(web, number)"],
+    "nearest": ["gap_unevenness(web, calling)", "nearest_calling(web)"],
+    "terms": ["web_of(term)", "is_term(thing)", "term_of(web)", "term_count(term)"],
+    "tickets": ["ticket_chance(web, tickets, order)", "even_tickets(web, tickets)",
+                "is_forest(web)", "tickets(web)", "hooks(web)"],
+    "rings": ["ring(web)", "is_ring(web, thing)"],
 }
 # The interface has functions and parameters of one name in one file.
-LISTED_TWICE = {("callings", "calling")}
+LISTED_TWICE = {("callings", "calling"), ("tickets", "tickets")}
 
 LIBRARY = {
     "heapq": {"heappush", "heappop", "heapify", "heapreplace", "heappushpop"},
@@ -60,7 +65,7 @@ BARRED = set(
 NODES = (
     ast.AsyncFunctionDef, ast.Await, ast.AsyncFor, ast.AsyncWith, ast.Global, ast.Div,
     ast.GeneratorExp, ast.Yield, ast.YieldFrom, ast.Try, ast.With, ast.Match, ast.AnnAssign,
-    ast.MatMult, ast.Pow, ast.NamedExpr, ast.Set, ast.Import, ast.JoinedStr, ast.Nonlocal,
+    ast.MatMult, ast.NamedExpr, ast.Set, ast.Import, ast.JoinedStr, ast.Nonlocal,
 )
 
 
@@ -183,6 +188,12 @@ class RulesTest(unittest.TestCase):
         for said, node in self.each(ast.FunctionDef, ast.ClassDef):
             self.assertEqual(node.decorator_list, [], said)
 
+    def test_exponents_are_written_out(self):
+        for said, node in self.each(ast.BinOp, ast.AugAssign):
+            if isinstance(node.op, ast.Pow):
+                self.assertIsInstance(node, ast.BinOp, said)
+                self.assertIn(ast.literal_eval(node.right), range(65), said)
+
     def test_names(self):
         for said, node in self.each(ast.Name):
             self.assertNotIn(node.id, BARRED, said)
@@ -247,6 +258,17 @@ class RulesTest(unittest.TestCase):
             for node in ast.walk(tree):
                 if isinstance(node, ast.Call) and ast.unparse(node.func) in lazy:
                     self.assertIsInstance(above[node], (ast.For, ast.comprehension))
+
+    def test_ranges_are_not_passed_on(self):
+        takers = ("list", "tuple", "sorted", "len", "reversed", "combinations", "permutations")
+        for tree in TREES.values():
+            above = parents(tree)
+            for node in ast.walk(tree):
+                if isinstance(node, ast.Call) and ast.unparse(node.func) == "range":
+                    if isinstance(above[node], ast.Call):
+                        self.assertIn(ast.unparse(above[node].func), takers)
+                    else:
+                        self.assertIsInstance(above[node], (ast.For, ast.comprehension, ast.Assign))
 
     def test_strings(self):
         for said, node in self.each(ast.Constant):
