@@ -57,6 +57,7 @@ def gap_rows(web, names):
         for row in rows:
             first, last = _gaps_between(web, row, name)
             for at in range(first, last + 1):
-                found[(*row[:at], name, *row[at:])] = rows[row] * (last - first + 1)
+                longer = (*row[:at], name, *row[at:])
+                found[longer] = rows[row] * (last - first + 1)
         rows = found
     return rows

@@ -94,6 +94,12 @@ def bound_names(function):
     return set(args + names)
 
 
+def starred(index):
+    """Whether a star, one or two, stands anywhere in an index."""
+    return any(isinstance(node, ast.Starred) or isinstance(node, ast.Dict) and None in node.keys
+               for node in ast.walk(index))
+
+
 class InterfaceTest(unittest.TestCase):
     def test_functions_are_defined_where_they_are_listed(self):
         for stem, heads in INTERFACE.items():
@@ -187,6 +193,21 @@ class RulesTest(unittest.TestCase):
             self.assertIn(type(node.value), (int, str, bool, type(None)), said)
         for said, node in self.each(ast.FunctionDef, ast.ClassDef):
             self.assertEqual(node.decorator_list, [], said)
+
+    def test_no_star_in_an_index(self):
+        for said, node in self.each(ast.Subscript):
+            self.assertFalse(starred(node.slice), said)
+
+    def test_what_a_star_in_an_index_is(self):
+        for text in ["found[(*row, name)]", "found[*row]", "found[[*row][0]]", "found[f(*row)]",
+                     "found[{**row}[0]]", "found[a, (b, *c)] = 1", "found[0][(*row,)] += 1",
+                     "del found[1:len([*row])]"]:
+            nodes = [node for node in ast.walk(ast.parse(text)) if isinstance(node, ast.Subscript)]
+            self.assertTrue(any(starred(node.slice) for node in nodes), text)
+        for text in ["found[longer]", "(*row[:at], name)", "[*row][0]", "f(*found[0])[1]"]:
+            for node in ast.walk(ast.parse(text)):
+                if isinstance(node, ast.Subscript):
+                    self.assertFalse(starred(node.slice), text)
 
     def test_exponents_are_written_out(self):
         for said, node in self.each(ast.BinOp, ast.AugAssign):
