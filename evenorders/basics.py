@@ -100,6 +100,37 @@ def behind_bits(web):
     return needs
 
 
+def befores_by(behind):
+    """The ascending tuple of all befores, from the bits of those behind each name."""
+    many = len(behind)
+    return tuple([(one, other) for one in range(many) for other in lot_of(many, behind[one])])
+
+
+def is_open(behind, one, other):
+    """Whether two names are unlike, and apart by the bits of those behind each name."""
+    return one != other and not (behind[one] >> other) & 1 and not (behind[other] >> one) & 1
+
+
+def open_by(behind):
+    """The pairs of names that are apart, the lesser one first, ascending."""
+    many = len(behind)
+    return [(one, other) for one in range(many) for other in range(one + 1, many)
+            if is_open(behind, one, other)]
+
+
+def answered(behind, one, other):
+    """Who is behind each name, as bits, once it is known that the one comes ahead of the other."""
+    later = behind[other] | (1 << other)
+    return tuple([bits | later if name == one or (bits >> one) & 1 else bits
+                  for name, bits in enumerate(behind)])
+
+
+def order_by(behind):
+    """The only order there is where no names are apart."""
+    # Of two names the one ahead has all behind it that the other has, and the other too.
+    return tuple(sorted(range(len(behind)), key=lambda name: -behind[name]))
+
+
 def is_closed(needs, bits):
     """Whether with each name of a lot all those that it needs are in the lot."""
     needed = [needs[name] for name in lot_of(len(needs), bits)]

@@ -1,6 +1,6 @@
 """Webs of befores, and who comes ahead of whom in them."""
 
-from evenorders.basics import ahead_bits, bits_of, closed_bits, comers
+from evenorders.basics import ahead_bits, befores_by, bits_of, closed_bits, comers
 from evenorders.basics import is_ascending, is_closed_lot, is_integer, is_name, lot_of
 from evenorders.errors import BadWeb, NoLot, NoName
 
@@ -46,7 +46,7 @@ def _with_following(many, befores):
         for one in range(many):
             if (behind[one] >> between) & 1:
                 behind[one] |= behind[between]
-    return tuple([(one, other) for one in range(many) for other in lot_of(many, behind[one])])
+    return befores_by(behind)
 
 
 def ahead_of(web, name):

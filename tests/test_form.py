@@ -40,6 +40,14 @@ INTERFACE = {
     "tickets": ["ticket_chance(web, tickets, order)", "even_tickets(web, tickets)",
                 "is_forest(web)", "tickets(web)", "hooks(web)"],
     "rings": ["ring(web)", "is_ring(web, thing)"],
+    "books": ["is_book(thing)", "even_book(web, book)", "book_chance(web, book, order)",
+              "unlike_by(web, book)", "books_part(one, other, many)", "always_even(book, many)"],
+    "asks": ["fewest_asks(web)", "most_asks(web)", "lucky(web, order)", "first_asks(web)",
+             "pieces(web)", "must_ask(web, order)", "no_saving(web)", "saving(web)"],
+    "trees": ["ask_tree(web)", "is_tree(web, thing)", "asked(tree, order)"],
+    "askers": ["asks_of(web, asker, order)", "worst_of(web, asker)", "cheapest_asks(web, prices)",
+               "cheap_first(web, prices)"],
+    "listing": ["webs(many)", "kinds(many)", "count_webs(many, sort)", "sorts(web)"],
 }
 # The interface has functions and parameters of one name in one file.
 LISTED_TWICE = {("callings", "calling"), ("tickets", "tickets")}
@@ -248,7 +256,8 @@ class RulesTest(unittest.TestCase):
             if isinstance(node.func, ast.Attribute):
                 self.assertIn(node.func.attr, METHODS, said)
             for keyword in node.keywords:
-                self.assertIn((node.func.id, keyword.arg), [("sorted", "key"), ("sorted", "reverse"), ("min", "key")])
+                self.assertIn((node.func.id, keyword.arg), [
+                    ("sorted", "key"), ("sorted", "reverse"), ("min", "key"), ("min", "default")])
 
     def test_library_names_are_called(self):
         for tree in TREES.values():

@@ -2,7 +2,8 @@
 
 import unittest
 
-from evenorders import callings, changes, favour, gaps, levels, nearest, rings, terms, tickets
+from evenorders import askers, asks, books, callings, changes, favour, gaps, levels, listing, nearest
+from evenorders import rings, terms, tickets, trees
 from evenorders.webs import Web
 from tests.common import Case, exact
 
@@ -12,6 +13,15 @@ ORDER = (2, 1, 0, 4, 3)
 MOMENT = (4, (2, 0, 1, 4), (0, 1, 4, 2))
 TERM = ("behind", (("one", 1), ("together", (("one", 2), ("one", 0)))))
 RING = [((0, 3), 1, 2), ((), 2, 1)]
+BOOK = (("front",), ("if", 2, (("back",),), (("front",), ("back",))))
+SMALL = Web(4, ((0, 2), (3, 2)))
+TREE = trees.ask_tree(SMALL)
+
+
+def asker(befores):
+    return [pair for pair in asks.open_pairs(WEB) if pair not in befores and pair[::-1] not in befores][0]
+
+
 CALLS = [
     (levels.levels, WEB), (levels.three, WEB), (levels.unlike, WEB, "back"),
     (levels.is_unlike, WEB, "back", (ORDER, ORDER)), (levels.is_unlike, WEB, "back", [ORDER]),
@@ -30,6 +40,16 @@ CALLS = [
     (tickets.ticket_chance, WEB, (2, 5, 1, 1, 3), ORDER), (tickets.even_tickets, WEB, (1,) * 5),
     (tickets.tickets, WEB), (tickets.hooks, WEB), (tickets.is_forest, WEB),
     (rings.ring, WEB), (rings.is_ring, WEB, RING), (rings.is_ring, WEB, [*RING, [RING]]),
+    (books.is_book, BOOK), (books.is_book, [BOOK, [BOOK]]), (books.book_chance, WEB, BOOK, ORDER),
+    (books.even_book, WEB, BOOK), (books.unlike_by, WEB, BOOK),
+    (books.books_part, BOOK, (("front",),), 4), (books.always_even, BOOK, 4),
+    (asks.fewest_asks, WEB), (asks.most_asks, WEB), (asks.first_asks, WEB), (asks.no_saving, WEB),
+    (asks.pieces, WEB), (asks.saving, WEB), (asks.lucky, WEB, ORDER), (asks.must_ask, WEB, ORDER),
+    (trees.ask_tree, WEB), (trees.is_tree, SMALL, TREE), (trees.is_tree, SMALL, [TREE, [TREE]]),
+    (trees.asked, TREE, (0, 3, 1, 2)),
+    (askers.asks_of, WEB, asker, ORDER), (askers.worst_of, WEB, asker),
+    (askers.cheapest_asks, WEB, (3, 1, 4, 1, 5, 9, 2)), (askers.cheap_first, WEB, (3, 1, 4, 1, 5, 9, 2)),
+    (listing.webs, 3), (listing.kinds, 4), (listing.count_webs, 4, "terms"), (listing.sorts, WEB),
 ]
 
 
