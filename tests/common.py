@@ -3,6 +3,8 @@
 import unittest
 from itertools import combinations, permutations
 
+from evenorders.desk import Desk
+from evenorders.draws import Draw
 from evenorders.errors import BadWeb, NoName
 from evenorders.webs import Web
 
@@ -86,7 +88,7 @@ def strange():
         (1, 0), (0, 0), (0, 3), (-1, 0), (0, 1, 1), (2, 1, 0), (0, 1, 2, 3), (0, None), (0, ()),
         range(0), range(3), slice(0, 2), iter([0]), (name for name in (0,)), object(), int, len,
         lambda: 0, ..., NotImplemented, ValueError("x"), Web(3, ()), (Web(1, ()),), NoName(),
-        BadWeb([1]), (NoName(), BadWeb("many"), Web(2, ())),
+        BadWeb([1]), (NoName(), BadWeb("many"), Web(2, ())), Draw(Web(2, ())), Desk(), [Draw(Web(1, ())), Desk()],
         nested(40, lambda thing: (thing,)), nested(40, lambda thing: [thing]),
         nested(40, lambda thing: {0: thing}), nested(40, lambda thing: (0, thing, 2)),
         nested(40, lambda thing: ((0, 1), thing)), nested(40, lambda thing: [(0, 1, 2), thing]),

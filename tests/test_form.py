@@ -48,6 +48,17 @@ INTERFACE = {
     "askers": ["asks_of(web, asker, order)", "worst_of(web, asker)", "cheapest_asks(web, prices)",
                "cheap_first(web, prices)"],
     "listing": ["webs(many)", "kinds(many)", "count_webs(many, sort)", "sorts(web)"],
+    "strangers": ["drawn(web, drawer, order)", "judged(web, drawer)"],
+    "texts": ["web_text(web)", "order_text(order)", "term_text(term)", "book_text(book)"],
+    "reading": ["read_web(text)", "read_order(text)", "read_term(text)", "read_book(text)"],
+}
+CLASSES = {
+    ("webs", "Web"): ["__init__(self, many, befores)", "__eq__(self, other)"],
+    ("draws", "Draw"): ["__init__(self, web)", "come(self, name)", "end(self, name)", "leave(self, name)",
+                        "learn(self, one, other)", "front(self)", "back_row(self)", "may_come(self)",
+                        "may_end(self)", "left(self)", "rest(self)", "shares(self)", "undo(self)",
+                        "deeds(self)", "copy(self)", "trying(self, action)"],
+    ("desk", "Desk"): ["__init__(self)", "tell(self, line)", "undoable(self)"],
 }
 # The interface has functions and parameters of one name in one file.
 LISTED_TWICE = {("callings", "calling"), ("tickets", "tickets")}
@@ -72,8 +83,8 @@ BARRED = set(
     "chr bytes frozenset float complex pow round format object".split())
 NODES = (
     ast.AsyncFunctionDef, ast.Await, ast.AsyncFor, ast.AsyncWith, ast.Global, ast.Div,
-    ast.GeneratorExp, ast.Yield, ast.YieldFrom, ast.Try, ast.With, ast.Match, ast.AnnAssign,
-    ast.MatMult, ast.NamedExpr, ast.Set, ast.Import, ast.JoinedStr, ast.Nonlocal,
+    ast.GeneratorExp, ast.Yield, ast.YieldFrom, ast.ExceptHandler, ast.With, ast.Match, ast.AnnAssign,
+    ast.MatMult, ast.NamedExpr, ast.Set, ast.Import, ast.Nonlocal,
 )
 
 
@@ -117,10 +128,14 @@ class InterfaceTest(unittest.TestCase):
                 self.assertIsInstance(found[name], ast.FunctionDef, head)
                 self.assertEqual(ast.unparse(found[name].args), arguments, head)
 
-    def test_web(self):
-        methods = [node.name for node in definitions(TREES["webs"])["Web"].body
-                   if isinstance(node, ast.FunctionDef)]
-        self.assertEqual(methods, ["__init__", "__eq__"])
+    def test_classes_have_their_methods_themselves(self):
+        for (stem, name), heads in CLASSES.items():
+            node = definitions(TREES[stem])[name]
+            self.assertEqual([ast.unparse(base) for base in node.bases], [])
+            methods = [part for part in node.body if isinstance(part, ast.FunctionDef)]
+            self.assertEqual([f"{part.name}({ast.unparse(part.args)})" for part in methods], heads)
+            for other in TREES:
+                self.assertEqual(name in definitions(TREES[other]), other == stem, name)
 
     def test_listed_names_are_bound_in_no_other_file(self):
         for stem, heads in INTERFACE.items():
@@ -154,11 +169,22 @@ class FilesTest(unittest.TestCase):
             for node in tree.body[1:]:
                 self.assertIsInstance(
                     node, (ast.ImportFrom, ast.FunctionDef, ast.ClassDef, ast.Assign))
-                if isinstance(node, ast.Assign):
+                if isinstance(node, ast.Assign) and ast.unparse(node.targets[0]) != "ANSWERS":
                     ast.literal_eval(node.value)
             bound = [*definitions(tree), *constants(tree),
                      *[alias.name for node in imports(tree) for alias in node.names]]
             self.assertEqual(sorted(bound), sorted(set(bound)), stem)
+
+    def test_a_table_of_functions_stands_behind_them(self):
+        body = TREES["desk"].body
+        table = [node for node in body if isinstance(node, ast.Assign)][-1]
+        above = [node.name for node in body[:body.index(table)] if isinstance(node, ast.FunctionDef)]
+        for key, value in zip(table.value.keys, table.value.values):
+            self.assertIn(key.value, ("show", "count", "levels", "calling", "term", "tickets", "asks", "sorts"))
+            self.assertIn(value.id, above)
+        uses = [node for node in ast.walk(TREES["desk"]) if isinstance(node, ast.Assign)
+                and ast.unparse(node) == "action = ANSWERS[word]"]
+        self.assertEqual(len(uses), 1)
 
     def test_imports(self):
         for stem, tree in TREES.items():
@@ -252,9 +278,13 @@ class RulesTest(unittest.TestCase):
                         self.assertIn(node.id, known | bound, f"{stem}: {node.id}")
 
     def test_methods(self):
+        own = {head.split("(")[0] for heads in CLASSES.values() for head in heads}
         for said, node in self.each(ast.Call):
             if isinstance(node.func, ast.Attribute):
-                self.assertIn(node.func.attr, METHODS, said)
+                if ast.unparse(node.func.value) == "self":
+                    self.assertIn(node.func.attr, own, said)
+                else:
+                    self.assertIn(node.func.attr, METHODS, said)
             for keyword in node.keywords:
                 self.assertIn((node.func.id, keyword.arg), [
                     ("sorted", "key"), ("sorted", "reverse"), ("min", "key"), ("min", "default")])
@@ -306,6 +336,19 @@ class RulesTest(unittest.TestCase):
                 self.assertNotIn("%", node.value, said)
                 self.assertNotIn("__", node.value, said)
                 self.assertNotIn("\\", node.value, said)
+
+    def test_what_is_put_back_at_last(self):
+        for said, node in self.each(ast.Try):
+            self.assertEqual(node.orelse + node.handlers, [], said)
+            for row in node.finalbody:
+                self.assertIsInstance(row, ast.Assign, said)
+                self.assertIsInstance(row.value, (ast.Name, ast.Attribute), said)
+                self.assertIsInstance(row.targets[0], (ast.Name, ast.Attribute), said)
+
+    def test_texts_with_braces(self):
+        for said, node in self.each(ast.FormattedValue):
+            self.assertIsInstance(node.value, (ast.Name, ast.Attribute), said)
+            self.assertEqual((node.conversion, node.format_spec), (-1, None), said)
 
     def test_errors_are_made_where_they_are_raised(self):
         errors = definitions(TREES["errors"])

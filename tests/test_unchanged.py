@@ -3,7 +3,7 @@
 import unittest
 
 from evenorders import askers, asks, books, callings, changes, favour, gaps, levels, listing, nearest
-from evenorders import rings, terms, tickets, trees
+from evenorders import reading, rings, strangers, terms, texts, tickets, trees
 from evenorders.webs import Web
 from tests.common import Case, exact
 
@@ -20,6 +20,11 @@ TREE = trees.ask_tree(SMALL)
 
 def asker(befores):
     return [pair for pair in asks.open_pairs(WEB) if pair not in befores and pair[::-1] not in befores][0]
+
+
+def drawer(row):
+    return {name: name + len(row) for name in range(5) if name not in row
+            and all(one in row for one, other in WEB.befores if other == name)}
 
 
 CALLS = [
@@ -49,6 +54,10 @@ CALLS = [
     (trees.asked, TREE, (0, 3, 1, 2)),
     (askers.asks_of, WEB, asker, ORDER), (askers.worst_of, WEB, asker),
     (askers.cheapest_asks, WEB, (3, 1, 4, 1, 5, 9, 2)), (askers.cheap_first, WEB, (3, 1, 4, 1, 5, 9, 2)),
+    (strangers.drawn, WEB, drawer, ORDER), (strangers.judged, WEB, drawer),
+    (texts.web_text, WEB), (texts.order_text, list(ORDER)), (texts.term_text, TERM), (texts.book_text, BOOK),
+    (reading.read_web, "names 3\nbefore 0 1\n"), (reading.read_order, "4 4 0"),
+    (reading.read_term, "[(0 > 2) | 1]"), (reading.read_book, "front if 2 ( back ) ( front back )"),
     (listing.webs, 3), (listing.kinds, 4), (listing.count_webs, 4, "terms"), (listing.sorts, WEB),
 ]
 
