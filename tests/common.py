@@ -88,7 +88,8 @@ def strange():
         (1, 0), (0, 0), (0, 3), (-1, 0), (0, 1, 1), (2, 1, 0), (0, 1, 2, 3), (0, None), (0, ()),
         range(0), range(3), slice(0, 2), iter([0]), (name for name in (0,)), object(), int, len,
         lambda: 0, ..., NotImplemented, ValueError("x"), Web(3, ()), (Web(1, ()),), NoName(),
-        BadWeb([1]), (NoName(), BadWeb("many"), Web(2, ())), Draw(Web(2, ())), Desk(), [Draw(Web(1, ())), Desk()],
+        BadWeb([1]), (NoName(), BadWeb("many"), Web(2, ())),
+        Draw(Web(2, ())), Desk(), [Draw(Web(1, ())), Desk()],
         nested(40, lambda thing: (thing,)), nested(40, lambda thing: [thing]),
         nested(40, lambda thing: {0: thing}), nested(40, lambda thing: (0, thing, 2)),
         nested(40, lambda thing: ((0, 1), thing)), nested(40, lambda thing: [(0, 1, 2), thing]),
@@ -112,6 +113,17 @@ def exact(thing):
     if isinstance(thing, Web):
         return (Web, exact(thing.many), exact(thing.befores))
     return (type(thing), thing)
+
+
+class Recorder:
+    """A function that a stranger hands in, and all that it is called with."""
+
+    def __init__(self, function):
+        self.function, self.seen = function, []
+
+    def __call__(self, *args):
+        self.seen.append(args)
+        return self.function(*args)
 
 
 class Case(unittest.TestCase):

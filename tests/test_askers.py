@@ -7,7 +7,7 @@ from evenorders.asks import fewest_asks, first_asks, most_asks
 from evenorders.errors import BadAsker, NoName, NoOrder, NoPrices, TooMany
 from evenorders.webs import Web, open_pairs
 from tests.common import APART8, F, FEW_WEBS, GREATER_WEBS, N, ONE, ROW8, T, WITH_4704, WITH_5040
-from tests.common import Case, brute_orders, strange, strange_but
+from tests.common import Case, Recorder, brute_orders, strange, strange_but
 from tests.games import by_answers, game_of, open_in
 
 MOST = 10 ** 6
@@ -39,15 +39,6 @@ def brute_asks(web, asker, order):
         asks.append(asker(seen[-1]))
         rows = next(part for part in by_answers(rows, *asks[-1]) if order in part)
     return asks, seen
-
-
-class Recorder:
-    def __init__(self, asker):
-        self.asker, self.seen = asker, []
-
-    def __call__(self, *args):
-        self.seen.append(args)
-        return self.asker(*args)
 
 
 class AskersTest(Case):

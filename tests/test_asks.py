@@ -81,7 +81,8 @@ class NoSavingTest(Case):
                     Web(6, ((0, 3), (0, 4), (0, 5), (1, 3), (1, 4), (1, 5), (2, 3), (2, 4), (2, 5)))):
             self.assert_flag(no_saving(web), True)
         for web in (Web(4, ()), APART8, LEVELS8, ALMOST_LEVELS8, TWO_ROWS8, Web(4, ((0, 1), (1, 2))),
-                    Web(4, ((0, 2), (1, 3))), Web(4, ((2, 3),)), APART6):
+                    Web(4, ((0, 2), (1, 3))), Web(4, ((2, 3),)), APART6,
+                    Web(5, ((0, 1), (0, 2), (0, 3), (0, 4))), Web(5, ((0, 4), (1, 4), (2, 4), (3, 4)))):
             self.assert_flag(no_saving(web), False)
 
     def test_the_seventh_fact(self):

@@ -14,7 +14,6 @@ from evenorders.terms import term_of
 from evenorders.texts import term_text, web_text
 from evenorders.tickets import tickets
 from evenorders.ways import WAYS, chance, even
-from evenorders.webs import Web
 from tests.common import ALMOST_LEVELS8, APART8, F, FEW_WEBS, GREATER_WEBS, LEVELS8, N, ONE, ROW8, T
 from tests.common import Case, strange
 
@@ -127,7 +126,8 @@ class KeepingTest(DeskCase):
 
     def test_what_only_tells_cannot_be_taken_back(self):
         before = self.all_told(self.desk)
-        for line in ["names", "order t 1", "chance t front 0,1,2", "even t back", *[f"{word} t" for word in WITH_NAME]]:
+        for line in ["names", "order t 1", "chance t front 0,1,2", "even t back",
+                     *[f"{word} t" for word in WITH_NAME]]:
             self.desk.tell(line)
         self.assertEqual(self.all_told(self.desk), before)
 
@@ -192,22 +192,32 @@ class WrongLinesTest(DeskCase):
             self.assert_refused(NoLine, {}, self.desk.tell, thing)
 
     def test_none_of_the_forms(self):
-        for line in ["", " ", "name", "nam", "Names", "names ", " names", "names t", "names\t", "undo ", "undo t", "undo 1",
-                     "xyz t", "web", "web ", "web t", "web t ", "web  t names 1|", "webs t names 1|", "drop", "drop ",
+        for line in ["", " ", "name", "nam", "Names", "names ", " names", "names t", "names\t", "undo ",
+                     "undo t", "undo 1",
+                     "xyz t", "web", "web ", "web t", "web t ", "web  t names 1|", "webs t names 1|",
+                     "drop", "drop ",
                      "drop t ", "drop  t", "drop t t", "before t", "before t 0", "before t 0 ", "before t 0 1 ",
                      "before t 0  1", "before t 0 1 2", "before t 0,1", "before 0 1 t", "order t", "order t ",
-                     "order t 1 2", "order 1 t", "chance t", "chance t front", "chance t front ", "chance t 0,1,2",
-                     "chance t front 0,1,2 ", "chance t front 0 1 2", "chance front t 0,1,2", "even t", "even t ",
-                     "even t side", "even t Front", "even front t", "even t front ", "even t front back", "even t fron",
+                     "order t 1 2", "order 1 t", "chance t", "chance t front", "chance t front ",
+                     "chance t 0,1,2",
+                     "chance t front 0,1,2 ", "chance t front 0 1 2", "chance front t 0,1,2", "even t",
+                     "even t ",
+                     "even t side", "even t Front", "even front t", "even t front ", "even t front back",
+                     "even t fron",
                      "chance t all 0,1,2", "chance t front 0,,2", "chance t front ,0,1", "chance t front 0,1,",
-                     "chance t front 0, 1", "chance t front ,", "chance t front 00,1,2", "chance t front 0,1,02",
+                     "chance t front 0, 1", "chance t front ,", "chance t front 00,1,2",
+                     "chance t front 0,1,02",
                      "chance t front 0,1,-2", "chance t front 0;1;2", "chance t front 0,1,1234567890",
-                     "chance t front a,b,c", "chance t front (0,1,2)", "show t\t", "tickets t 1", "sorts", "asks 3", "t"]:
+                     "chance t front a,b,c", "chance t front (0,1,2)", "show t\t", "tickets t 1", "sorts",
+                     "asks 3", "t"]:
             self.refuse(NoLine, {}, line)
         for word in WITH_NAME + ["drop"]:
-            for line in [word, word + " ", word + "  t", word + " t ", word + " t t", " " + word + " t", word + "t",
-                         word + " T", word + " t1", word + " abcdefghi", word + "\tt", word.upper() + " t", word + " t\n",
-                         word + " \n", word + " t|", word + "s t" if word != "term" else "terms t", word[:-1] + " t"]:
+            for line in [word, word + " ", word + "  t", word + " t ", word + " t t", " " + word + " t",
+                         word + "t",
+                         word + " T", word + " t1", word + " abcdefghi", word + "\tt", word.upper() + " t",
+                         word + " t\n",
+                         word + " \n", word + " t|", word + "s t" if word != "term" else "terms t",
+                         word[:-1] + " t"]:
                 self.refuse(NoLine, {}, line)
 
     def test_names_of_one_to_eight_letters(self):
@@ -216,10 +226,13 @@ class WrongLinesTest(DeskCase):
             self.tell(f"count {name}", "2")
         for name in ["", "abcdefghi", "A", "aB", "a1", "1", "a_b", "a-b", "a.b", "`", "{", "a{", "a\tb", "~"]:
             self.refuse(NoLine, {}, f"web {name} names 2|")
-            self.refuse(NoLine, {}, f"before {name} 0 1")
+            for line in [f"before {name} 0 1", f"order {name} 0", f"chance {name} front 0,1",
+                         f"even {name} front"]:
+                self.refuse(NoLine, {}, line)
 
     def test_numbers(self):
-        for number in ["00", "01", "-1", "+1", "1.", "1234567890", "0000000000", "x", "1x", "", "0x1", "1_0", "1e3", "\t1"]:
+        for number in ["00", "01", "-1", "+1", "1.", "1234567890", "0000000000", "x", "1x", "", "0x1",
+                       "1_0", "1e3", "\t1"]:
             self.refuse(NoLine, {}, f"order t {number}")
             self.refuse(NoLine, {}, f"before t {number} 1")
             self.refuse(NoLine, {}, f"before t 1 {number}")
@@ -234,7 +247,8 @@ class WrongLinesTest(DeskCase):
     def test_bad_texts(self):
         for text, line in [("names 3", 1), ("|", 1), (" names 3|", 1), ("  ", 1), ("x", 1), ("names 03|", 1),
                            ("names 3|before 0 2", 2), ("names 3|before 0 2| ", 3), ("names 3|before 0  2|", 2),
-                           ("names 3||", 2), ("names 3|before 0 2|before 0 1|", 3), ("names 3\t|", 1), ("names 3 |", 1),
+                           ("names 3||", 2), ("names 3|before 0 2|before 0 1|", 3), ("names 3\t|", 1),
+                           ("names 3 |", 1),
                            ("names 3|names 3|", 2), ("names 3|x|y|", 2)]:
             self.refuse(BadText, {"line": line}, "web x " + text)
             self.refuse(BadText, {"line": line}, "web t " + text)

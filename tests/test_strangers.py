@@ -11,7 +11,7 @@ from evenorders.ways import chance
 from evenorders.webs import Web
 from tests.brute import free, pair_of
 from tests.common import APART8, F, FEW_WEBS, GREATER_WEBS, LEVELS8, N, ONE, ROW8, T
-from tests.common import WITH_4704, WITH_5040, Case, brute_orders, strange
+from tests.common import WITH_4704, WITH_5040, Case, Recorder, brute_orders, strange
 
 GREAT = 10 ** 59
 
@@ -57,15 +57,6 @@ def brute_chances(web, drawer):
             share *= Fraction(given.get(order[at], 0), sum(given.values()))
         found[order] = share
     return found
-
-
-class Recorder:
-    def __init__(self, drawer):
-        self.drawer, self.seen = drawer, []
-
-    def __call__(self, *args):
-        self.seen.append(args)
-        return self.drawer(*args)
 
 
 class DrawnTest(Case):
@@ -138,7 +129,8 @@ class JudgedTest(Case):
         for web in FEW_WEBS[::4]:
             given = tickets(web)
             if given is not None:
-                self.assert_same(judged(web, lambda row: {one: given[one] for one in those_free(web, row)}), None)
+                self.assert_same(judged(web, lambda row: {one: given[one] for one in those_free(web, row)}),
+                                 None)
 
     def test_rows_that_come_to_be(self):
         for web in FEW_WEBS[::6] + [GREATER_WEBS[2]]:
@@ -156,7 +148,8 @@ class JudgedTest(Case):
         self.assert_same(judged(WITH_4704, fair(WITH_4704)), None)
         least, other = judged(WITH_4704, front(WITH_4704))
         self.assertEqual(least, orders(WITH_4704)[0])
-        self.assertNotEqual(drawn(WITH_4704, front(WITH_4704), least), drawn(WITH_4704, front(WITH_4704), other))
+        self.assertNotEqual(drawn(WITH_4704, front(WITH_4704), least),
+                            drawn(WITH_4704, front(WITH_4704), other))
         for web in (WITH_5040, APART8):
             recorder = Recorder(front(web))
             self.assert_refused(TooMany, {"most": 5000}, judged, web, recorder)
@@ -165,8 +158,10 @@ class JudgedTest(Case):
 
 class BadDrawersTest(Case):
     def test_bad_from_the_begin(self):
-        for thing in [*strange(), {}, {0: 0}, {0: 0, 1: 0}, {2: 1}, {0: 1, 2: 1}, {0: 1, 2: 0}, {0: -1}, {0: 1, 1: -1},
-                      {0: True}, {True: 1}, {False: 1, 1: 1}, {"0": 1}, {0: "1"}, {0: None}, {0: (1, 2)}, {(0,): 1},
+        for thing in [*strange(), {}, {0: 0}, {0: 0, 1: 0}, {2: 1}, {0: 1, 2: 1}, {0: 1, 2: 0}, {0: -1},
+                      {0: 1, 1: -1},
+                      {0: True}, {True: 1}, {False: 1, 1: 1}, {"0": 1}, {0: "1"}, {0: None}, {0: (1, 2)},
+                      {(0,): 1},
                       {0: 1, None: 1}, {3: 1}, {-1: 1}, [(0, 1)], ((0, 1),), [1, 1], (1, 1), "01", 1,
                       {0: 1, 1: [1]}, {0: {0: 1}}, {b"0": 1}, {0: Web(1, ())}, {NoName(): 1}]:
             if thing != {0: 1}:
@@ -209,7 +204,8 @@ class BadDrawersTest(Case):
             self.assert_same(drawn(web, drawer, (1, 2, 0)), (1, 2))
 
     def test_errors_go_on(self):
-        for error in (KeyError("x"), ValueError(), NoName(), BadDrawer(7), StopIteration(), KeyboardInterrupt()):
+        for error in (KeyError("x"), ValueError(), NoName(), BadDrawer(7), StopIteration(),
+                      KeyboardInterrupt()):
             def drawer(row):
                 raise error
             for function, args in [(drawn, (T, drawer, (0, 1, 2))), (judged, (T, drawer))]:

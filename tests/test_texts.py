@@ -45,14 +45,17 @@ class WebTextsTest(TextsCase):
             self.assert_bad(read_web, 0, thing)
 
     def test_the_first_bad_line(self):
-        for first in ["", "name 3", "names", "names ", "names  3", " names 3", "names 3 ", "names 03", "names +3",
+        for first in ["", "name 3", "names", "names ", "names  3", " names 3", "names 3 ", "names 03",
+                      "names +3",
                       "names -3", "names 3.", "names three", "Names 3", "names\t3", "names 3\t", "names 3 3",
                       "names 1234567890", "before 0 1", "names 00", "names 0000000003", "3", "names 3,"]:
             self.assert_bad(read_web, 1, first + "\n")
             self.assert_bad(read_web, 1, first + "\nbefore 0 1\n")
-        for line in ["", "names 3", "before", "before 0", "before 0 ", "before 0  1", "before 0 1 ", " before 0 1",
+        for line in ["", "names 3", "before", "before 0", "before 0 ", "before 0  1", "before 0 1 ",
+                     " before 0 1",
                      "before 0 1 2", "before 00 1", "before 0 01", "before -0 1", "before 0 1234567890",
-                     "before 1234567890 1", "before 0\t1", "before a b", "Before 0 1", "before 0,1", "before 0 +1"]:
+                     "before 1234567890 1", "before 0\t1", "before a b", "Before 0 1", "before 0,1",
+                     "before 0 +1"]:
             self.assert_bad(read_web, 2, "names 3\n" + line + "\n")
             self.assert_bad(read_web, 3, "names 3\nbefore 0 1\n" + line + "\nbefore 0 2\nnames\n")
             self.assert_bad(read_web, 3, "names 9\nbefore 0 0\n" + line + "\n")
@@ -102,8 +105,10 @@ class OrderTextsTest(TextsCase):
         self.assert_same(read_order(order_text((1,) * 3000)), (1,) * 3000)
 
     def test_no_order(self):
-        for thing in [None, True, 0, 3, "", "0 1", b"0", {}, {0: 1}, range(3), (8,), [8], (-1,), (0, 8), (True,), [False],
-                      (0, 1, True), ("0",), (None,), ((0,),), [[0]], (10 ** 59,), (0, ()), iter([0]), Web(3, ()),
+        for thing in [None, True, 0, 3, "", "0 1", b"0", {}, {0: 1}, range(3), (8,), [8], (-1,), (0, 8),
+                      (True,), [False],
+                      (0, 1, True), ("0",), (None,), ((0,),), [[0]], (10 ** 59,), (0, ()), iter([0]),
+                      Web(3, ()),
                       (name for name in (0,)), NoOrder()]:
             self.assert_refused(NoOrder, {}, order_text, thing)
         for thing in strange():
@@ -115,7 +120,8 @@ class OrderTextsTest(TextsCase):
                 self.assert_refused(NoOrder, {}, order_text, [0, thing])
 
     def test_bad_texts(self):
-        for text in [" ", "0 ", " 0", "0  1", "8", "0 8", "01", "0,1", "-1", "0\t1", "0\n", "\n", "a", "0 1 x", "00",
+        for text in [" ", "0 ", " 0", "0  1", "8", "0 8", "01", "0,1", "-1", "0\t1", "0\n", "\n", "a",
+                     "0 1 x", "00",
                      "10", "+1", "0 1\t"]:
             self.assert_bad(read_order, 0, text)
         for thing in NO_STRINGS:
@@ -178,13 +184,18 @@ class TermTextsTest(TextsCase):
             for at in range(len(text)):
                 if sign not in " >|)]" and text[at] != sign:
                     self.assert_bad(read_term, at + 1, text[:at] + sign + text[at + 1:])
-        for wrong, place in [("((0 > 2) | 1]", 10), ("[[0 > 2) | 1]", 5), ("[(0 | 2) | 1]", 5), ("[(0 > 2] | 1]", 8),
+        for wrong, place in [("((0 > 2) | 1]", 10), ("[[0 > 2) | 1]", 5), ("[(0 | 2) | 1]", 5),
+                             ("[(0 > 2] | 1]", 8),
                              ("[(0 > 2) > 1]", 10), ("[(0 > 2) | 1)", 13), ("[(0  > 2) | 1]", 5),
-                             ("[(0 >  2) | 1]", 7), ("[(0> 2) | 1]", 4), ("[(0 >2) | 1]", 6), ("[(0 > 2)| 1]", 9),
-                             ("[(0 > 2) |1]", 11), ("[ (0 > 2) | 1]", 2), ("[(0 > 2) | 1 ]", 14), ("[(0) | 1]", 4),
+                             ("[(0 >  2) | 1]", 7), ("[(0> 2) | 1]", 4), ("[(0 >2) | 1]", 6),
+                             ("[(0 > 2)| 1]", 9),
+                             ("[(0 > 2) |1]", 11), ("[ (0 > 2) | 1]", 2), ("[(0 > 2) | 1 ]", 14),
+                             ("[(0) | 1]", 4),
                              ("[(0 > 2)]", 9), ("[]", 2), ("()", 2), ("[0 | ]", 6), ("[(0 > 2) | 10]", 13),
-                             (" 0", 1), ("0 ", 2), ("00", 2), ("01", 2), ("8", 1), ("-1", 1), ("(0 > 2) | 1", 8),
-                             ("one", 1), ("", 1), ("\n", 1), (")", 1), ("[0 | 1] ", 8), ("(0 > 1))", 8), ("(0)", 3)]:
+                             (" 0", 1), ("0 ", 2), ("00", 2), ("01", 2), ("8", 1), ("-1", 1),
+                             ("(0 > 2) | 1", 8),
+                             ("one", 1), ("", 1), ("\n", 1), (")", 1), ("[0 | 1] ", 8), ("(0 > 1))", 8),
+                             ("(0)", 3)]:
             self.assert_bad(read_term, place, wrong)
 
     def assert_read(self, text):
@@ -212,7 +223,8 @@ class TermTextsTest(TextsCase):
             self.assert_read("(0 > [1 | 2" + "".join(signs))
 
     def test_names_that_are_not_as_they_must_be(self):
-        for text in ["1", "7", "(0 > 0)", "(1 > 2)", "[0 | 2]", "[(0 > 1) | 1]", "(0 > 1 > 2 > 3 > 4 > 5 > 6 > 7 > 0)",
+        for text in ["1", "7", "(0 > 0)", "(1 > 2)", "[0 | 2]", "[(0 > 1) | 1]",
+                     "(0 > 1 > 2 > 3 > 4 > 5 > 6 > 7 > 0)",
                      "[0 | 1 | 3]", "((0 > 1) > (0 > 1))"]:
             self.assert_refused(NoTerm, {}, read_term, text)
         self.assert_bad(read_term, 8, "(0 > 0))")
@@ -267,21 +279,29 @@ class BookTextsTest(TextsCase):
             self.assert_refused(NoBook, {}, book_text, thing)
 
     def test_blanks(self):
-        for text in [" ", "  ", " front", "front ", "front  back", "if 0 ( front ) ( back ) ", "if 0 (  front ) ( back )",
-                     "front\tback", "front\n", "\n", "\t", "front back\t", "front\nback", "x  x", " x", "front \n back"]:
+        for text in [" ", "  ", " front", "front ", "front  back", "if 0 ( front ) ( back ) ",
+                     "if 0 (  front ) ( back )",
+                     "front\tback", "front\n", "\n", "\t", "front back\t", "front\nback", "x  x", " x",
+                     "front \n back"]:
             self.assert_bad(read_book, 0, text)
         for thing in NO_STRINGS + [b"front", ["front"], (("front",),)]:
             self.assert_bad(read_book, 0, thing)
 
     def test_the_first_bad_word(self):
-        for text, word in [("x", 1), ("Front", 1), ("front, back", 1), ("front x", 2), (")", 1), ("(", 1), ("0", 1),
-                           ("front )", 2), ("front (", 2), ("front 0", 2), ("if front", 2), ("if 8 ( front ) ( back )", 2),
-                           ("if -1 ( front ) ( back )", 2), ("if 00 ( front ) ( back )", 2), ("if ( front )", 2),
+        for text, word in [("x", 1), ("Front", 1), ("front, back", 1), ("front x", 2), (")", 1), ("(", 1),
+                           ("0", 1),
+                           ("front )", 2), ("front (", 2), ("front 0", 2), ("if front", 2),
+                           ("if 8 ( front ) ( back )", 2),
+                           ("if -1 ( front ) ( back )", 2), ("if 00 ( front ) ( back )", 2),
+                           ("if ( front )", 2),
                            ("if 0 front", 3), ("if 0 )", 3), ("if 0 ( )", 4), ("if 0 ( 1", 4), ("if 0 ( (", 4),
                            ("if 0 ( front back", None), ("if 0 ( front ) front", 6), ("if 0 ( front ) )", 6),
-                           ("if 0 ( front ) if", 6), ("if 0 ( front ) ( )", 7), ("if 0 ( front ) ( back ) )", 9),
-                           ("if 0 ( front ) ( back ) (", 9), ("if 0 ( front ) ( back ) x", 9), ("if 0 (front)", 3),
-                           ("if 0 ( if 1 ( front ) ( back ) ( back )", 12), ("fron", 1), ("frontback", 1), ("if0", 1)]:
+                           ("if 0 ( front ) if", 6), ("if 0 ( front ) ( )", 7),
+                           ("if 0 ( front ) ( back ) )", 9),
+                           ("if 0 ( front ) ( back ) (", 9), ("if 0 ( front ) ( back ) x", 9),
+                           ("if 0 (front)", 3),
+                           ("if 0 ( if 1 ( front ) ( back ) ( back )", 12), ("fron", 1), ("frontback", 1),
+                           ("if0", 1)]:
             self.assert_bad(read_book, word if word is not None else len(text.split(" ")) + 1, text)
 
     def test_words_missing_at_the_end(self):
